@@ -1,0 +1,1 @@
+"""Stemshelf: a house of files that holds alike pieces once."""
