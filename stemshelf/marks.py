@@ -1,6 +1,6 @@
 """Marks, by which a row of words shows whether it was spoilt."""
 
-from stemshelf.wholes import is_between
+from stemshelf.kinds import is_between
 
 MARK_RESTS = 2147483647
 
@@ -12,7 +12,7 @@ def mark_of(words):
 
 def sealed(words):
     """Words with their mark behind them."""
-    return list(words) + [mark_of(words)]
+    return words + [mark_of(words)]
 
 
 def unsealed(row):

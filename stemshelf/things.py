@@ -1,8 +1,8 @@
 """Things, and the words that they are written down as."""
 
 from stemshelf.errors import NoThing
+from stemshelf.kinds import is_between, is_whole
 from stemshelf.signs import SIGNS, is_text, number_of, sign_of
-from stemshelf.wholes import is_between, is_whole
 
 MOST_NUMBER = 999999999
 MOST_SIGNS = 400

@@ -1,4 +1,4 @@
-"""What a whole number is, for all modules."""
+"""What kind a value is of, asked of whatever value, for all modules."""
 
 
 def is_whole(thing):
@@ -9,3 +9,8 @@ def is_whole(thing):
 def is_between(thing, least, most):
     """Whether this is a whole number from least to most, both of them too."""
     return is_whole(thing) and least <= thing <= most
+
+
+def is_tuple_of(thing, many):
+    """Whether this is a tuple of so many parts."""
+    return isinstance(thing, tuple) and len(thing) == many
