@@ -39,6 +39,39 @@ DUNDERS = ("__init__", "__eq__", "__repr__", "__str__", "__len__")
 PLAIN = re.compile(r"[A-Za-z][A-Za-z0-9_]*")
 
 
+WALKED = set("zip enumerate reversed range items keys values".split())
+WALKERS = set("list tuple dict sorted sum any all enumerate zip min max".split())
+
+
+def called(node):
+    """The name of the def or method that a node calls, or None."""
+    if not isinstance(node, ast.Call):
+        return None
+    return node.func.id if isinstance(node.func, ast.Name) else node.func.attr
+
+
+def parents(tree):
+    return {child: node for node in ast.walk(tree) for child in ast.iter_child_nodes(node)}
+
+
+def is_walked_at_once(node, parent):
+    if isinstance(parent, (ast.For, ast.comprehension)):
+        return parent.iter is node
+    if called(parent) in ("min", "max"):
+        return parent.args == [node]
+    if called(parent) in WALKERS and parent.args[0] is node:
+        return True
+    return called(parent) == "join" and isinstance(parent.func.value, ast.Constant)
+
+
+def is_set_at_once(node, parent):
+    if isinstance(parent, ast.BinOp):
+        return True
+    if isinstance(parent, ast.Compare):
+        return isinstance(parent.ops[0], (ast.In, ast.NotIn, ast.Eq, ast.NotEq))
+    return called(parent) in ("sorted", "len") and parent.keywords == []
+
+
 def nodes(kind):
     for name, tree in TREES.items():
         for node in ast.walk(tree):
@@ -172,6 +205,20 @@ class LanguageTest(unittest.TestCase):
             self.assertEqual((node.keywords, node.decorator_list), ([], []), where)
             for part in node.body:
                 self.assertTrue(isinstance(part, ast.FunctionDef) or part is node.body[0] and ast.get_docstring(node))
+
+    def test_walked_at_once_and_sets(self):
+        for name, tree in TREES.items():
+            above = parents(tree)
+            for node in ast.walk(tree):
+                where = f"{name}:{getattr(node, 'lineno', 0)}"
+                if called(node) in WALKED:
+                    self.assertTrue(is_walked_at_once(node, above[node]), where)
+                if called(node) in ("set", "frozenset") or isinstance(node, ast.Set):
+                    self.assertTrue(is_set_at_once(node, above[node]), where)
+
+    def test_raises_make_their_error(self):
+        for name, node in nodes(ast.Raise):
+            self.assertIsInstance(node.exc, ast.Call, f"{name}:{node.lineno}")
 
     def test_values(self):
         for name, node in nodes(ast.Constant):
