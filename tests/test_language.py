@@ -193,9 +193,9 @@ class LanguageTest(unittest.TestCase):
     def test_methods_and_values(self):
         self.assertEqual(methods() & stored_values(), set())
         self.assertEqual(stored_values() & NO_VALUES, set())
+        known = methods() | stored_values() | METHODS
         for name, node in nodes(ast.Attribute):
             self.assertNotIn(node.attr, UNUSED, f"{name}:{node.lineno}")
-            known = methods() | stored_values() | METHODS
             self.assertIn(node.attr, known, f"{name}:{node.lineno}")
 
     def test_classes(self):
