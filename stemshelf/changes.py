@@ -12,6 +12,7 @@ from stemshelf.heads import SEAL, STEM
 from stemshelf.histories import grafted
 from stemshelf.names import (
     check_new_name,
+    check_new_stem,
     check_room,
     keeper_called,
     named_so,
@@ -27,10 +28,7 @@ from stemshelf.names import (
 from stemshelf.paths import folder_of, is_beneath, steps_in
 from stemshelf.shares import share_in
 from stemshelf.things import MOST_SIGNS
-from stemshelf.trees import entry_at, with_entry
-
-MOST_TREE_ENTRIES = 60
-MOST_TREE_DEEP = 8
+from stemshelf.trees import MOST_TREE_DEEP, MOST_TREE_ENTRIES, entry_at, with_entry
 
 
 def keeper_told(head, name, bound):
@@ -125,12 +123,16 @@ def stem_set_back(head, stem):
 
 def stem_grafted(pool, head, stem):
     """Behind graft(STEM)."""
-    named = stem_called(head, stem)
-    if named[3] == "":
-        raise Bare(stem)
-    behind = one_older(grafted(head, stem))
-    check_bound(pool, head, behind, named[2])
+    behind = stem_grafted_unbound(head, stem)
+    check_bound(pool, head, behind, stem_called(head, stem)[2])
     return behind
+
+
+def stem_grafted_unbound(head, stem):
+    """Behind graft(STEM), where no bound is asked for."""
+    if stem_called(head, stem)[3] == "":
+        raise Bare(stem)
+    return one_older(grafted(head, stem))
 
 
 def name_dropped(head, name):
@@ -190,9 +192,7 @@ def entry_behind(pool, head, stem, path, put_entry):
 
 def stem_new(pool, head, stem, put_tree):
     """The head behind a deed by which there is a new stem, told without its tag."""
-    check_new_name(head, stem[0])
-    keeper_called(head, stem[2])
-    check_room(head)
+    check_new_stem(head, stem[0], stem[2])
     return stem_behind(pool, head, stem, put_tree)
 
 

@@ -1,6 +1,6 @@
 """Copies: how a block is laid on two boards, and read from the one that is right."""
 
-from stemshelf.blocks import is_block, sum_of
+from stemshelf.blocks import is_block, sum_of, tags_in
 from stemshelf.errors import Lost, NoThing
 from stemshelf.kinds import is_tuple_of
 from stemshelf.marks import sealed, unsealed
@@ -49,4 +49,30 @@ def thing_on(boards, board, number):
     try:
         return thing_of(words)
     except NoThing:
+        return None
+
+
+def blocks_from(boards, tags):
+    """The blocks on boards that are walked from tags."""
+    return walked(lambda tag: block_or_none(boards, tag), tags)
+
+
+def walked(block_of, tags):
+    """A dict to their blocks from all tags come to from some, through what can be read; to None from a lost one."""
+    found = {}
+    waiting = list(tags)
+    while len(waiting) > 0:
+        tag = waiting.pop()
+        if tag not in found:
+            found[tag] = block_of(tag)
+            if found[tag] is not None:
+                waiting.extend(tags_in(found[tag]))
+    return found
+
+
+def block_or_none(boards, tag):
+    """The block of a tag, or None where no copy is right."""
+    try:
+        return fetched(boards, tag)
+    except Lost:
         return None

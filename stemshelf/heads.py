@@ -77,9 +77,14 @@ def are_at_one(keepers, names):
     return all([seal[2] in begins and seal[3] > begins[seal[2]] for seal in seals])
 
 
+def head_row(head):
+    """What a head's cell holds on each board."""
+    return sealed(words_of(head))
+
+
 def lay_head(boards, head):
     """Lays a head on all boards."""
-    row = sealed(words_of(head))
+    row = head_row(head)
     for board in range(boards.many()):
         boards.write(board, HEAD_CELL, row)
 

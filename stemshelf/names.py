@@ -80,6 +80,13 @@ def check_room(head):
         raise TooMany()
 
 
+def check_new_stem(head, name, keeper):
+    """Refuses a new stem of this name and keeper where there can't be one."""
+    check_new_name(head, name)
+    keeper_called(head, keeper)
+    check_room(head)
+
+
 def put_among(some, one):
     """Tuples that rise by names, with this one new or in the place of the one of its name."""
     others = [other for other in some if other[0] != one[0]]

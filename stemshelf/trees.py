@@ -4,6 +4,9 @@ from stemshelf.blocks import FOLDER, FOLDER_ENTRY, MOST_ENTRIES
 from stemshelf.errors import NoPath, TooMany
 from stemshelf.paths import path_to, steps_in
 
+MOST_TREE_ENTRIES = 60
+MOST_TREE_DEEP = 8
+
 
 def entry_at(pool, root, path):
     """The entry (kind, tag) that stands at a path, or None."""

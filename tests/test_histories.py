@@ -1,7 +1,8 @@
 import random
 import unittest
 
-from stemshelf.errors import NoName
+from helper import MOST, new_house, tree_of
+from stemshelf.errors import Bare, Grown, NoName
 from stemshelf.heads import is_head
 from stemshelf.histories import grafted, history_in
 
@@ -127,6 +128,55 @@ class GraftedTest(unittest.TestCase):
                 anew = grafted(head, chance.choice(able))
                 self.same(TREE, anew)
                 head = anew
+
+
+class HouseTest(unittest.TestCase):
+    """Histories of a house's stems, grafted by its deeds."""
+
+    def setUp(self):
+        self.boards, self.house = new_house(
+            3, ("keeper", "ann", MOST), ("keeper", "bob", MOST), ("stem", "main", "ann"), ("write", "main", "f", "one"),
+            ("seal", "main", "z1"), ("write", "main", "f", "two"), ("seal", "main", "m2"), ("grow", "side", "m2", "bob"),
+            ("write", "side", "g", "three"), ("seal", "side", "a1"), ("seal", "main", "b3"), ("seal", "side", "s2"),
+            ("grow", "leaf", "a1", "ann"), ("seal", "leaf", "l1"), ("grow", "early", "z1", "bob"))
+        self.due = {"main": ["z1", "m2", "b3"], "side": ["z1", "m2", "a1", "s2"], "leaf": ["z1", "m2", "a1", "l1"],
+                    "early": ["z1"]}
+
+    def told(self):
+        return ({stem: history_in(self.house.head(), stem) for stem in self.due},
+                {named[0]: tree_of(self.house, named[0]) for named in self.house.head()[2]}, reads(self.house.head()))
+
+    def test_histories(self):
+        self.assertEqual(self.told()[0], self.due)
+
+    def test_grafted_all_is_as_it_was(self):
+        ahead = self.told()
+        for stem in ("side", "main", "leaf", "side", "early", "main", "leaf", "early"):
+            if [named for named in self.house.head()[2] if named[0] == stem][0][3] != "":
+                due = grafted(self.house.head(), stem)
+                self.house.graft(stem)
+                self.assertEqual(self.house.head()[1:], due[1:])
+                self.assertEqual(self.told(), ahead)
+
+    def test_what_back_brings_and_what_may_be_dropped(self):
+        self.house.graft("side")
+        self.house.drop("b3")
+        self.assertEqual(tree_of(self.house, "main"), {"f": "two"})
+        with self.assertRaises(Bare):
+            self.house.back("main")
+        with self.assertRaises(Grown) as caught:
+            self.house.drop("side")
+        # z1, m2, a1: origins of early, main and leaf
+        self.assertEqual(caught.exception.name, "a1")
+        self.house.drop("main")
+        self.assertEqual(history_in(self.house.head(), "side"), self.due["side"])
+
+    def test_dropped_seals_are_gone_from_histories(self):
+        self.house.drop("s2")
+        self.house.drop("early")
+        self.house.drop("z1")
+        self.assertEqual(history_in(self.house.head(), "leaf"), ["m2", "a1", "l1"])
+        self.assertEqual(history_in(self.house.head(), "side"), ["m2", "a1"])
 
 
 if __name__ == "__main__":

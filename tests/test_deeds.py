@@ -1,66 +1,67 @@
+"""Each deed of a house by itself: what it does, what refuses it, and in which order; a plain house does the same."""
+
 import unittest
 
-from stemshelf import changes
-from stemshelf.boards import Boards
-from stemshelf.contents import content_at
+from helper import MOST, all_of, do, new_house, pool_state, refusal_of, spoil_copies, tree_of, trees_of
 from stemshelf.errors import Bare, Grown, Lost, NoName, NoPath, OverBound, StemError, TooMany, Twice
-from stemshelf.heads import is_head
-from stemshelf.pool import Pool
+from stemshelf.heads import head_of, is_head
+from stemshelf.opening import opened
+from stemshelf.plain import PlainHouse
 from stemshelf.shares import share_in
 from stemshelf.trees import all_in
 
-MOST = 999999999
 DEEP = "/".join("abcdefgh")
-BY_NAMES_ALONE = {"keeper": changes.keeper_told, "seal": changes.stem_sealed, "back": changes.stem_set_back,
-                  "drop": changes.name_dropped}
-BY_TREES = {"stem": changes.stem_begun, "folder": changes.folder_made, "write": changes.file_written,
-            "splice": changes.file_spliced, "remove": changes.entry_removed, "move": changes.entry_moved,
-            "copy": changes.entry_copied, "grow": changes.stem_grown, "graft": changes.stem_grafted}
 NO_NAMES = ("", "A", "a b", "abcdefghi", "a/b", ".")
 NO_PATHS = ("/", "/a", "a/", "a//b", "A", "abcdefghi", DEEP + "/i", " ", ".")
 
 
-def state(pool):
-    return [(number, pool.tag(number), pool.count(number), pool.tags(number)) for number in pool.numbers()]
-
-
-class ChangeTest(unittest.TestCase):
-    """Takes changes over into a pool as a house is due to."""
+class DeedTest(unittest.TestCase):
+    """A house on three boards, looked at behind each deed and each refusal, and a plain one that is told the same."""
 
     def setUp(self):
-        self.boards = Boards(3)
-        self.pool = Pool(self.boards)
-        self.head = (0, (), ())
+        self.boards, self.house = new_house(3)
+        self.plain = PlainHouse()
 
-    def behind(self, word, *parts):
-        if word in BY_NAMES_ALONE:
-            return BY_NAMES_ALONE[word](self.head, *parts)
-        return BY_TREES[word](self.pool, self.head, *parts)
+    @property
+    def head(self):
+        return self.house.head()
+
+    @property
+    def pool(self):
+        return self.house.pool()
 
     def do(self, word, *parts):
-        head = self.behind(word, *parts)
-        self.assertTrue(is_head(head), head)
-        self.assertEqual(head[0], self.head[0] + 1)
-        for named in head[2]:
-            self.pool.hold(named[4])
-        self.pool.sweep()
-        self.pool.lay_draft()
-        for named in self.head[2]:
-            self.pool.release(named[4])
-        self.head = head
+        ahead = self.head
+        self.assertIsNone(do(self.house, word, *parts))
+        self.assertTrue(is_head(self.head), self.head)
+        self.assertEqual(self.house.age(), ahead[0] + 1)
+        self.assertEqual(self.head[0], ahead[0] + 1)
+        self.assertEqual(head_of(self.boards), self.head)
+        if self.plain is not None:
+            self.assertIsNone(do(self.plain, word, *parts))
+            self.same_in_plain()
+
+    def same_in_plain(self):
+        for name in self.names():
+            self.assertEqual(self.plain.paths(name), self.house.paths(name))
+            self.assertEqual(tree_of(self.plain, name), self.tree(name))
 
     def refused(self, error, *deed):
         """The error is a class, or one with its field."""
-        ahead = self.head, state(self.pool), self.boards.written()
+        ahead = all_of(self.house, self.boards)
         with self.subTest(deed):
             with self.assertRaises(StemError) as caught:
-                self.behind(*deed)
+                do(self.house, *deed)
             if isinstance(error, type):
                 self.assertIs(caught.exception.__class__, error)
             else:
                 self.assertIs(caught.exception.__class__, error.__class__)
                 self.assertEqual(vars(caught.exception), vars(error))
-            self.assertEqual((self.head, state(self.pool), self.boards.written()), ahead)
+            self.assertEqual(all_of(self.house, self.boards), ahead)
+            if self.plain is not None and not isinstance(caught.exception, OverBound):
+                self.assertEqual(refusal_of(do, self.plain, *deed),
+                                 (caught.exception.__class__.__name__, vars(caught.exception)))
+                self.same_in_plain()
 
     def named(self, name):
         return [named for named in self.head[2] if named[0] == name][0]
@@ -69,13 +70,13 @@ class ChangeTest(unittest.TestCase):
         return [named[0] for named in self.head[2]]
 
     def tree(self, name):
-        """A dict from paths to contents, None of a folder."""
-        root = self.named(name)[4]
-        return {path: None if kind == 2 else content_at(self.pool, tag)
-                for path, kind, tag in all_in(self.pool, root) if path != ""}
+        return tree_of(self.house, name)
 
     def trees(self):
-        return {name: self.tree(name) for name in self.names()}
+        return trees_of(self.house)
+
+    def share(self, keeper):
+        return share_in(self.pool, self.head, keeper)
 
     def set_up(self, *names):
         """Keepers ann and bob without a bound to speak of, and ann's stems of these names."""
@@ -116,7 +117,7 @@ class ChangeTest(unittest.TestCase):
             self.do("keeper", keeper, 0)
 
 
-class KeeperTest(ChangeTest):
+class KeeperTest(DeedTest):
     def test_new_ones_and_other_bounds(self):
         self.do("keeper", "bob", 5)
         self.assertEqual(self.head, (1, (("bob", 5),), ()))
@@ -152,7 +153,7 @@ class KeeperTest(ChangeTest):
         self.assertEqual(self.head[1][7], ("k7", 6))
 
 
-class StemTest(ChangeTest):
+class StemTest(DeedTest):
     def test_an_empty_root(self):
         self.set_up("main")
         self.assertEqual(self.named("main")[:4], ("main", 1, "ann", ""))
@@ -204,7 +205,7 @@ class StemTest(ChangeTest):
         self.refused(TooMany, "stem", "new", "poor")
 
 
-class FolderTest(ChangeTest):
+class FolderTest(DeedTest):
     def test_empty_folders(self):
         self.set_up("main", "other")
         for path in ("a", "b", "a/c", "a/c/d"):
@@ -265,7 +266,7 @@ class FolderTest(ChangeTest):
         self.refused(TooMany, "folder", "main", "new")
 
 
-class WriteTest(ChangeTest):
+class WriteTest(DeedTest):
     def test_new_files_and_other_contents(self):
         self.set_up("main", "other")
         self.do("write", "main", "a", "one")
@@ -286,9 +287,9 @@ class WriteTest(ChangeTest):
     def test_the_same_content_again(self):
         self.set_up("main")
         self.do("write", "main", "a", "content")
-        ahead = state(self.pool)
+        ahead = pool_state(self.pool)
         self.do("write", "main", "a", "content")
-        self.assertEqual(state(self.pool), ahead)
+        self.assertEqual(pool_state(self.pool), ahead)
 
     def test_refusals(self):
         self.set_up("main")
@@ -335,7 +336,7 @@ class WriteTest(ChangeTest):
         self.refused(OverBound("ann"), "write", "main", "n1", "x" * 400)
 
 
-class SpliceTest(ChangeTest):
+class SpliceTest(DeedTest):
     def test_places_and_lengths(self):
         self.set_up("main")
         for at, many, text, due in ((0, 0, "", "content"), (0, 0, "x", "xcontent"), (3, 0, "x", "conxtent"),
@@ -395,7 +396,7 @@ class SpliceTest(ChangeTest):
         self.refused(OverBound("ann"), "splice", "main", "f", 0, 1, "y")
 
 
-class RemoveTest(ChangeTest):
+class RemoveTest(DeedTest):
     def test_files_and_folders_with_all_in_them(self):
         self.set_up("main")
         for path in ("a", "a/b"):
@@ -426,7 +427,7 @@ class RemoveTest(ChangeTest):
             self.do("write", "main", f"n{number}", "")
         self.do("seal", "main", "s")
         # the seal's root stays, the stem's own is put anew beside it: 6 and 16 for each of eight entries
-        share = share_in(self.pool, self.head, "ann")[0]
+        share = self.share("ann")[0]
         self.do("keeper", "ann", share + 6 + 8 * 16 - 1)
         self.refused(OverBound("ann"), "remove", "main", "n8")
         self.do("keeper", "ann", share + 6 + 8 * 16)
@@ -452,7 +453,7 @@ class RemoveTest(ChangeTest):
         self.refused(OverBound("ann"), "remove", "main", "f")
 
 
-class MoveTest(ChangeTest):
+class MoveTest(DeedTest):
     def test_files_and_folders(self):
         self.set_up("main")
         for path in ("a", "a/b", "c"):
@@ -524,7 +525,7 @@ class MoveTest(ChangeTest):
         self.set_up("main")
         self.do("folder", "main", "a")
         self.do("write", "main", "f", "")
-        share = share_in(self.pool, self.head, "ann")[0]
+        share = self.share("ann")[0]
         # a isn't empty any more: the root 15 less, a 15 more; moved to a name of one sign more, 1 more
         self.do("keeper", "ann", share)
         self.do("move", "main", "f", "a/f")
@@ -555,7 +556,7 @@ class MoveTest(ChangeTest):
         self.refused(OverBound("ann"), "move", "main", "n1", "new")
 
 
-class CopyTest(ChangeTest):
+class CopyTest(DeedTest):
     def world(self):
         self.set_up("main", "other")
         self.do("folder", "main", "a")
@@ -655,7 +656,7 @@ class CopyTest(ChangeTest):
         self.refused(OverBound("bob"), "copy", "other", "bb", "main", "a")
         self.do("keeper", "bob", 22 + 12)
         self.do("copy", "other", "bb", "main", "a")
-        self.assertEqual(share_in(self.pool, self.head, "bob"), (67, 2))
+        self.assertEqual(self.share("bob"), (67, 2))
 
     def test_of_several_refusals_the_first_told(self):
         self.world()
@@ -673,7 +674,7 @@ class CopyTest(ChangeTest):
         self.refused(OverBound("ann"), "copy", "main", "new", "main", "f")
 
 
-class SealTest(ChangeTest):
+class SealTest(DeedTest):
     def test_the_stems_tree_and_the_age_that_is_come_to(self):
         self.set_up("main")
         self.do("write", "main", "a", "one")
@@ -712,7 +713,7 @@ class SealTest(ChangeTest):
         self.refused(Twice("main"), "seal", "main", "main")
 
 
-class GrowTest(ChangeTest):
+class GrowTest(DeedTest):
     def test_the_seals_tree_and_the_seal_its_origin(self):
         self.set_up("main")
         self.do("write", "main", "a", "one")
@@ -762,7 +763,7 @@ class GrowTest(ChangeTest):
         self.refused(TooMany, "grow", "new", "s", "poor")
 
 
-class BackTest(ChangeTest):
+class BackTest(DeedTest):
     def test_the_latest_seal_by_turns(self):
         self.set_up("main")
         for content, seal in (("one", "z"), ("two", "a"), ("three", "m")):
@@ -797,7 +798,7 @@ class BackTest(ChangeTest):
         self.assertEqual(self.tree("main"), {"a": "content"})
 
 
-class GraftTest(ChangeTest):
+class GraftTest(DeedTest):
     def world(self):
         self.set_up("main")
         for content, seal in (("one", "s1"), ("two", "s2"), ("three", "s3")):
@@ -824,8 +825,10 @@ class GraftTest(ChangeTest):
 
     def test_over_its_bound(self):
         self.world()
-        ahead = share_in(self.pool, self.head, "bob")
-        behind = share_in(self.pool, self.behind("graft", "side"), "bob")
+        ahead = self.share("bob")
+        other = opened(self.boards.again())
+        other.graft("side")
+        behind = share_in(other.pool(), other.head(), "bob")
         self.assertGreater(behind[0] * ahead[1], ahead[0] * behind[1])
         self.do("keeper", "bob", (behind[0] - 1) // behind[1])
         self.refused(OverBound("bob"), "graft", "side")
@@ -848,7 +851,7 @@ class GraftTest(ChangeTest):
         self.refused(OverBound("bob"), "graft", "side")
 
 
-class DropTest(ChangeTest):
+class DropTest(DeedTest):
     def world(self):
         self.set_up("main", "other")
         for content, seal in (("one", "s3"), ("two", "s1"), ("three", "s2")):
@@ -910,7 +913,7 @@ class DropTest(ChangeTest):
         self.assertEqual([self.named(name)[1] for name in ("main", "s1")], [2, 1])
 
 
-class BoundTest(ChangeTest):
+class BoundTest(DeedTest):
     def test_another_keepers_deed_may_raise_a_share(self):
         self.set_up("main")
         self.do("write", "main", "a", "x")
@@ -918,7 +921,7 @@ class BoundTest(ChangeTest):
         self.do("grow", "side", "s", "bob")
         self.do("keeper", "ann", 22)
         self.do("drop", "side")
-        self.assertEqual(share_in(self.pool, self.head, "ann"), (44, 1))
+        self.assertEqual(self.share("ann"), (44, 1))
 
     def test_only_the_keeper_of_the_stem_is_asked(self):
         self.set_up("main")
@@ -937,17 +940,18 @@ class BoundTest(ChangeTest):
         self.refused(OverBound("ann"), "write", "main", "b", "yz")
 
 
-class LostTest(ChangeTest):
-    def spoil(self, tag):
-        for board in self.boards.twins(tag[0]):
-            self.boards.spoil(board, tag[0], None)
+class LostTest(DeedTest):
+    def setUp(self):
+        super().setUp()
+        # a plain house can't lose anything
+        self.plain = None
 
     def test_refused_with_lost_nothing_is_changed(self):
         self.set_up("main", "other")
         self.do("folder", "main", "a")
         self.do("write", "main", "a/b", "content")
-        tag = dict((path, tag) for path, kind, tag in all_in(self.pool, self.named("main")[4]))["a"]
-        self.spoil(tag)
+        tag = self.house.tag_at("main", "a")
+        spoil_copies(self.boards, tag)
         for deed in (("write", "main", "a/b", "x"), ("remove", "main", "a/b"), ("folder", "main", "a/c"),
                      ("move", "main", "a/b", "c"), ("splice", "main", "a/b", 0, 0, "x"),
                      ("copy", "other", "c", "main", "a/b")):
@@ -957,17 +961,54 @@ class LostTest(ChangeTest):
         self.refused(Lost(tag[0]), "write", "other", "a/b", "content")
         self.assertEqual(self.tree("other"), {"a": None})
 
+    def test_what_was_put_in_ahead_of_a_lost_one_is_free_again(self):
+        self.set_up("main", "other")
+        self.do("write", "main", "a", "xyz")
+        tag = self.house.tag_at("main", "a")
+        piece = self.pool.tags(tag[0])[0]
+        spoil_copies(self.boards, piece)
+        # its first piece is new, its second one is alike with the lost one, for all that can be seen
+        self.refused(Lost(piece[0]), "write", "other", "b", "&&xyz")
+        self.do("write", "other", "b", "&&")
 
-class AskersOwnTest(ChangeTest):
+    def test_what_is_done_changes_no_other_names_tree(self):
+        self.set_up("main", "other", "third")
+        self.do("folder", "main", "a")
+        self.do("write", "main", "a/b", "content")
+        self.do("write", "third", "x", "something else")
+        self.do("seal", "third", "s")
+        spoil_copies(self.boards, self.house.tag_at("main", "a"))
+        ahead = {name: self.tree(name) for name in ("other", "third", "s")}
+        self.do("copy", "other", "a", "main", "a")
+        self.do("remove", "main", "a")
+        self.do("remove", "other", "a")
+        self.assertEqual(self.trees(), {"main": {}} | ahead)
+
+    def test_alike_where_boards_and_houses_came_to_be_alike(self):
+        deeds = (("keeper", "ann", MOST), ("stem", "main", "ann"), ("folder", "main", "a"),
+                 ("write", "main", "a/b", "content"), ("write", "main", "c", "another content"))
+        answers = []
+        for turn in range(2):
+            boards, house = new_house(2, *deeds)
+            spoil_copies(boards, house.tag_at("main", "c"))
+            answers.append([refusal_of(do, house, *deed) for deed in (
+                ("write", "main", "d", "another content"), ("splice", "main", "c", 0, 1, "x"), ("remove", "main", "c"),
+                ("write", "main", "c", "another content"), ("seal", "main", "s"))])
+            answers.append(all_of(house, boards))
+        self.assertEqual(answers[:2], answers[2:])
+
+
+class AskersOwnTest(DeedTest):
     def test_heads_ahead_are_not_changed(self):
         self.set_up("main")
         self.do("write", "main", "a", "x")
         self.do("seal", "main", "s")
         ahead = self.head
         same = (ahead[0], tuple(ahead[1]), tuple(tuple(named) for named in ahead[2]))
-        for deed in (("keeper", "ann", 5), ("stem", "new", "ann"), ("write", "main", "a", "y"), ("drop", "s"),
-                     ("grow", "side", "s", "bob"), ("back", "main")):
-            self.assertNotEqual(self.behind(*deed), ahead)
+        for deed in (("keeper", "ann", 5), ("keeper", "ann", MOST), ("stem", "new", "ann"), ("write", "main", "a", "y"),
+                     ("grow", "side", "s", "bob"), ("back", "main"), ("graft", "side"), ("drop", "new")):
+            self.do(*deed)
+            self.assertNotEqual(self.head, ahead)
         self.assertEqual(ahead, same)
 
 

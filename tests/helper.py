@@ -1,25 +1,132 @@
-"""Rows of deeds by chance, against plain copies that know nothing of blocks but their sizes."""
+"""For the tests: boards that tell their writes, what a house tells, plain copies, deeds by chance, accounts by hand."""
 
 import random
-import unittest
 from fractions import Fraction
 
-from stemshelf import changes
-from stemshelf.blocks import sum_of
+from stemshelf.blocks import size_of, sum_of, tags_in
 from stemshelf.boards import Boards
-from stemshelf.contents import content_at
+from stemshelf.copies import fetched
 from stemshelf.cutting import groups_of, pieces_of
 from stemshelf.errors import Bare, Grown, NoName, NoPath, OverBound, StemError, TooMany, Twice
-from stemshelf.heads import is_head
-from stemshelf.pool import Pool
-from stemshelf.shares import share_in, space_in
-from stemshelf.trees import all_in
+from stemshelf.house import House
 
-BY_NAMES_ALONE = {"keeper": changes.keeper_told, "seal": changes.stem_sealed, "back": changes.stem_set_back,
-                  "drop": changes.name_dropped}
-BY_TREES = {"stem": changes.stem_begun, "folder": changes.folder_made, "write": changes.file_written,
-            "splice": changes.file_spliced, "remove": changes.entry_removed, "move": changes.entry_moved,
-            "copy": changes.entry_copied, "grow": changes.stem_grown, "graft": changes.stem_grafted}
+MOST = 999999999
+DEEDS = ("keeper", "stem", "folder", "write", "splice", "remove", "move", "copy", "seal", "grow", "back", "graft", "drop")
+
+# one of each deed, each of them done
+STORY = (
+    ("keeper", "ann", MOST),
+    ("keeper", "bob", 5000),
+    ("stem", "main", "ann"),
+    ("folder", "main", "a"),
+    ("write", "main", "a/b", "An oak is a tree, and an elm is a tree."),
+    ("write", "main", "c", ""),
+    ("splice", "main", "a/b", 3, 3, "ash"),
+    ("seal", "main", "s"),
+    ("move", "main", "c", "a/c"),
+    ("copy", "main", "d", "s", ""),
+    ("grow", "side", "s", "bob"),
+    ("write", "side", "e", "another"),
+    ("remove", "side", "a"),
+    ("seal", "side", "t"),
+    ("remove", "side", "e"),
+    ("back", "side"),
+    ("graft", "side"),
+    ("stem", "other", "bob"),
+    ("drop", "other"),
+    ("drop", "t"),
+)
+
+
+class SeenBoards(Boards):
+    """Boards that keep a list of the writes that were done, (board, number, row)."""
+
+    def __init__(self, many):
+        super().__init__(many)
+        self.seen = []
+
+    def write(self, board, number, row):
+        super().write(board, number, row)
+        self.seen.append((board, number, list(row)))
+
+
+def every_cell(boards):
+    return [{number: list(row) for number, row in shelf.items()} for shelf in boards.shelves]
+
+
+def pool_state(pool):
+    return [(pool.tag(number), pool.size(number), pool.count(number), pool.tags(number), pool.entries(number),
+             pool.deep(number)) for number in pool.numbers()]
+
+
+def all_of(house, boards):
+    """All that a refused deed is due to leave as it was."""
+    return house.head(), pool_state(house.pool()), boards.written(), every_cell(boards)
+
+
+def tree_of(house, name):
+    """A dict from paths to contents, None of a folder."""
+    return {path: None if kind == 2 else house.read(name, path) for path, kind in house.paths(name)}
+
+
+def trees_of(house):
+    return {named[0]: tree_of(house, named[0]) for named in house.head()[2]}
+
+
+def stands(house):
+    """Keepers, stems and seals as Plain has them."""
+    trees = trees_of(house)
+    names = [(kind, name, (other, more, trees[name])) for name, kind, other, more, tag in house.head()[2]]
+    return (dict(house.head()[1]), {name: named for kind, name, named in names if kind == 1},
+            {name: named for kind, name, named in names if kind == 2})
+
+
+def told_by(house):
+    """All that a house tells, but for its age."""
+    return house.head()[1:], trees_of(house)
+
+
+def reached_by(boards, head):
+    """A dict from the tags that a head's names lead to on the boards to (block, how often it is named)."""
+    blocks, counts, waiting = {}, {}, [named[4] for named in head[2]]
+    while waiting:
+        tag = waiting.pop()
+        counts[tag] = counts.get(tag, 0) + 1
+        if tag not in blocks:
+            blocks[tag] = fetched(boards, tag)
+            waiting.extend(tags_in(blocks[tag]))
+    return {tag: (blocks[tag], counts[tag]) for tag in blocks}
+
+
+def do(house, word, *parts):
+    return getattr(house, word)(*parts)
+
+
+def do_all(house, deeds):
+    for deed in deeds:
+        do(house, *deed)
+    return house
+
+
+def new_house(many, *deeds):
+    """Boards with a house behind these deeds."""
+    boards = SeenBoards(many)
+    return boards, do_all(House(boards), deeds)
+
+
+def refusal_of(call, *parts):
+    """The class and the fields of what refuses a call, or None."""
+    try:
+        call(*parts)
+    except StemError as refusal:
+        return refusal.__class__.__name__, vars(refusal)
+    return None
+
+
+def spoil_copies(boards, tag, places=(0, 1)):
+    """Empties these of a block's two copies."""
+    for place in places:
+        boards.spoil(boards.twins(tag[0])[place], tag[0], None)
 
 
 def is_plain_name(name):
@@ -104,6 +211,14 @@ class Plain:
         other = Plain()
         other.age, other.sizes = self.age, self.sizes
         other.keepers, other.stems, other.seals = dict(self.keepers), dict(self.stems), dict(self.seals)
+        return other
+
+    def stands(self):
+        return self.keepers, self.stems, self.seals
+
+    def aged(self, age):
+        other = self.again()
+        other.age = age
         return other
 
     def keeper_of(self, name):
@@ -333,71 +448,100 @@ class Chance:
         return word, stem, self.path(tree, True), other, self.path(plain.trees().get(other, {}), False)
 
 
-class ManyDeedsTest(unittest.TestCase):
-    def behind(self, word, *parts):
-        if word in BY_NAMES_ALONE:
-            return BY_NAMES_ALONE[word](self.head, *parts)
-        return BY_TREES[word](self.pool, self.head, *parts)
-
-    def take_over(self, head):
-        for named in head[2]:
-            self.pool.hold(named[4])
-        self.pool.sweep()
-        self.pool.lay_draft()
-        for named in self.head[2]:
-            self.pool.release(named[4])
-        self.head = head
-
-    def state(self):
-        return self.head, [(number, self.pool.tag(number), self.pool.count(number)) for number in self.pool.numbers()]
-
-    def tree(self, root):
-        return {path: None if kind == 2 else content_at(self.pool, tag)
-                for path, kind, tag in all_in(self.pool, root) if path != ""}
-
-    def check(self, plain):
-        self.assertTrue(is_head(self.head))
-        self.assertEqual(self.head[:2], (plain.age, tuple(sorted(plain.keepers.items()))))
-        stems = {name: (other, more, self.tree(tag)) for name, kind, other, more, tag in self.head[2] if kind == 1}
-        seals = {name: (other, more, self.tree(tag)) for name, kind, other, more, tag in self.head[2] if kind == 2}
-        self.assertEqual((stems, seals), (plain.stems, plain.seals))
-        for keeper in plain.keepers:
-            share = plain.share(keeper)
-            self.assertEqual(share_in(self.pool, self.head, keeper), (share.numerator, share.denominator))
-        blocks = set().union(*[plain.sizes.tree(tree)[1] for tree in plain.trees().values()])
-        self.assertEqual(len(self.pool.numbers()), len(blocks))
-        self.assertEqual(space_in(self.pool), sum(plain.sizes.sizes[block] for block in blocks))
-
-    def go(self, seed, many):
-        self.boards = Boards(2 + seed % 3)
-        self.pool, self.head = Pool(self.boards), (0, (), ())
-        plain, chance, met = Plain(), Chance(seed), {}
-        for turn in range(many):
-            deed = chance.deed(plain)
-            due = plain.behind(deed[0], deed[1:])
-            ahead = self.state()
-            if isinstance(due, Plain):
-                self.take_over(self.behind(*deed))
-                plain = due
-                self.check(plain)
-            else:
-                with self.assertRaises(StemError, msg=deed) as caught:
-                    self.behind(*deed)
-                self.assertIs(caught.exception.__class__, due.__class__, deed)
-                self.assertEqual(vars(caught.exception), vars(due), deed)
-                self.assertEqual(self.state(), ahead)
-            met[(deed[0], due.__class__.__name__)] = met.get((deed[0], due.__class__.__name__), 0) + 1
-        return met
-
-    def test_many(self):
-        met = {}
-        for seed in range(6):
-            for key, many in self.go(seed, 200).items():
-                met[key] = met.get(key, 0) + many
-        self.assertEqual({word for word, answer in met if answer == "Plain"}, set(BY_NAMES_ALONE) | set(BY_TREES))
-        self.assertEqual({answer for word, answer in met},
-                         {"Plain", "NoName", "NoPath", "Twice", "TooMany", "OverBound", "Bare", "Grown"})
+def by_chance(seed, many):
+    """Of so many deeds by chance those that are done, each with the plain copies behind it."""
+    plain, chance = Plain(), Chance(seed)
+    for turn in range(many):
+        deed = chance.deed(plain)
+        due = plain.behind(deed[0], deed[1:])
+        if isinstance(due, Plain):
+            plain = due
+            yield deed, plain
 
 
-if __name__ == "__main__":
-    unittest.main()
+class Node:
+    """A cell of an account that is made by hand: each object is one cell."""
+
+    def __init__(self, kind, parts):
+        self.kind, self.parts = kind, parts
+
+    def beneath(self):
+        if self.kind == 0:
+            return []
+        return list(self.parts[1]) if self.kind == 1 else [node for name, kind, node in self.parts]
+
+    def block(self, tags):
+        if self.kind == 0:
+            return (0, self.parts)
+        if self.kind == 1:
+            return (1, self.parts[0], tuple(tags[node] for node in self.parts[1]))
+        return (2, tuple((name, kind, tags[node]) for name, kind, node in self.parts))
+
+
+def piece(text):
+    return Node(0, text)
+
+
+def row(level, *nodes):
+    return Node(1, (level, nodes))
+
+
+def file(*texts):
+    return row(1, *[piece(text) for text in texts])
+
+
+def folder(*entries):
+    return Node(2, entries)
+
+
+def cells_under(roots):
+    """All nodes, each once, behind those that it names."""
+    order = []
+
+    def walk(node):
+        if node not in order:
+            for other in node.beneath():
+                walk(other)
+            order.append(node)
+
+    for root in roots:
+        walk(root)
+    return order
+
+
+def made(names, keepers=(("ann", 9), ("bob", 9)), age=7, numbers=None, birth=0, more=()):
+    """An account in which all is so, but for what its nodes break; more are nodes that no name has."""
+    nodes = cells_under([named[4] for named in names] + list(more))
+    numbers = numbers or range(1, len(nodes) + 1)
+    tags, heights, counts, holders = {}, {}, {node: 0 for node in nodes}, {node: set() for node in nodes}
+    for number, node in zip(numbers, nodes):
+        tags[node] = (number, birth, sum_of(node.block(tags)))
+        heights[node] = max([1 + heights[other] for other in node.beneath()], default=0)
+        for other in node.beneath():
+            counts[other] += 1
+    keeper_of = {named[0]: named[2] for named in names if named[1] == 1}
+    for named in names:
+        counts[named[4]] += 1
+        for node in cells_under([named[4]]):
+            holders[node].add(keeper_of[named[0] if named[1] == 1 else named[2]])
+    cells = sorted((tags[node][0], birth, node.block(tags), heights[node], counts[node], tuple(sorted(holders[node])))
+                   for node in nodes)
+    shares = {keeper: Fraction(0) for keeper, bound in keepers}
+    for cell in cells:
+        for keeper in cell[5]:
+            shares[keeper] += Fraction(size_of(cell[2]), len(cell[5]))
+    return (age, keepers, tuple(sorted(named[:4] + (tags[named[4]],) for named in names)), tuple(cells),
+            tuple((keeper, (share.numerator, share.denominator)) for keeper, share in sorted(shares.items())))
+
+
+def stem(root, name="main", keeper="ann"):
+    return (name, 1, keeper, "", root)
+
+
+def of_stem(root):
+    return made([stem(root)])
+
+
+def in_folder(*nodes):
+    """A root with these nodes as files n0 and on."""
+    return folder(*[(f"n{place}", 1, node) for place, node in enumerate(nodes)])
