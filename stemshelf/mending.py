@@ -10,17 +10,17 @@ from stemshelf.trees import all_in
 
 def copies_told(boards):
     """Tuples (number, birth, right) of all blocks come to, rising: how many of the two copies are right."""
-    return sorted([(tag[0], tag[1], len(right_copies(boards, tag))) for tag in come_to(boards)])
+    return sorted([(tag[0], tag[1], len(right_copies(boards, tag))) for tag in blocks_come_to(boards)])
 
 
-def come_to(boards):
+def blocks_come_to(boards):
     """A dict to their blocks from the tags come to from the names on the boards, to None from those that are lost."""
     return blocks_from(boards, [named[4] for named in head_of(boards)[2]])
 
 
 def lost_tags(boards):
     """The tags come to whose blocks have no right copy."""
-    blocks = come_to(boards)
+    blocks = blocks_come_to(boards)
     return [tag for tag in blocks if blocks[tag] is None]
 
 
@@ -40,7 +40,7 @@ class FoundFolders:
 
 def lost_in(boards):
     """Tuples (number, needs) of all lost blocks, rising; needs are tuples (name, path) of what can't be read so."""
-    blocks = come_to(boards)
+    blocks = blocks_come_to(boards)
     needs = dict([(tag[0], []) for tag in blocks if blocks[tag] is None])
     folders = FoundFolders(blocks)
     for named in head_of(boards)[2]:
@@ -60,7 +60,7 @@ def lost_of(blocks, kind, tag):
 
 def mended(boards):
     """The numbers, rising, of all cells that were written from their other copy, 0 of the head."""
-    numbers = [tag[0] for tag in come_to(boards) if is_copied_over(boards, tag)]
+    numbers = [tag[0] for tag in blocks_come_to(boards) if is_copied_over(boards, tag)]
     if is_head_laid_anew(boards):
         numbers.append(HEAD_CELL)
     return sorted(numbers)

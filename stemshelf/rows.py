@@ -122,5 +122,7 @@ def done(house, deed):
         house.back(deed[1])
     elif word == "graft":
         house.graft(deed[1])
-    else:
+    elif word == "drop":
         house.drop(deed[1])
+    else:
+        raise NoRow()

@@ -356,6 +356,19 @@ class ManyRowsTest(DeskTest):
                     over = [keeper for keeper in sorted(plain.keepers) if plain.share(keeper) > plain.keepers[keeper]]
                     self.answers(desk, ("over", " ".join(over)), ("age", str(plain.age)))
 
+    def test_each_row_on_two_three_and_four_boards(self):
+        for many in (2, 3, 4):
+            self.answers(
+                Desk(many), ("keeper ann 999999999", "ok"), ("keeper bob 100", "ok"), ("stem main ann", "ok"),
+                ("folder main b", "ok"), ("write main b/c xyz", "ok"), ("splice main b/c 1 1 __", "ok"),
+                ("read main b/c", "x__z"), ("move main b/c d", "ok"), ("paths main", "b/ d"), ("seal main s", "ok"),
+                ("copy main b/all s .", "ok"), ("paths main", "b/ b/all/ b/all/b/ b/all/d d"), ("remove main b/all", "ok"),
+                ("back main", "ok"), ("grow side s bob", "ok"), ("history side", "s"), ("graft side", "ok"),
+                ("history main", "s"), ("space", "68"), ("share ann", "34"), ("share bob", "34"), ("over", ""),
+                ("keeper bob 33", "ok"), ("over", "bob"), ("looked", "let by"), ("age", "14"), ("lost", ""), ("mend", ""),
+                ("spoil 1 0", "ok"), ("mend", "0"), ("lose 0", "ok"), ("read side d", "x__z"), ("stop 4", "ok"),
+                ("go", "ok"), ("open", "ok"), ("age", "15"), ("drop main", "ok"), ("share bob", "68"), ("paths s", "b/ d"))
+
     def test_a_desk_goes_on_with_the_same_boards(self):
         desk = told(4, f"keeper ann {MOST}", "stem main ann", "write main a one", "open", "write main a two", "open")
         self.answers(desk, ("read main a", "two"), ("age", "6"), ("lose 3", "ok"), ("open", "ok"), ("read main a", "two"))

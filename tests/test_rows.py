@@ -162,6 +162,12 @@ class DoneTest(unittest.TestCase):
         self.assertEqual(refusal_of(done, house, ("write", "main", "a", "x")), ("NoPath", {"path": "a"}))
         self.assertEqual(refusal_of(done, house, ("graft", "side")), ("Bare", {"name": "side"}))
 
+    def test_what_is_no_deed_does_nothing(self):
+        boards, house = new_house(2, *STORY)
+        ahead = stands(house)
+        self.assertEqual(refusal_of(done, house, ("take_in", "main")), ("NoRow", {}))
+        self.assertEqual(stands(house), ahead)
+
 
 if __name__ == "__main__":
     unittest.main()
